@@ -1,0 +1,1 @@
+"""Baylines: lines of holding bays, and which bays may change places."""
