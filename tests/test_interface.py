@@ -10,6 +10,17 @@ FUNCTIONS = {
         "is_rising": ["row"], "rows_of": ["n", "many"],
     },
     "rowtexts": {"row_text": ["row"], "read_row": ["n", "value"]},
+    "books": {
+        "book_error": ["n", "value"], "passes": ["book", "x", "h"], "passed": ["book", "x"], "passers": ["book"],
+        "ranked": ["levels"], "closed": ["n", "pairs"], "only": ["book", "chosen"], "common": ["one", "other"],
+        "renamed": ["book", "names"], "all_books": ["n"],
+    },
+    "booktexts": {"book_text": ["book"], "read_book": ["n", "value"]},
+    "lines": {"line_error": ["n", "value"], "standing_error": ["n", "line", "value"], "empty": ["line"]},
+    "running": {
+        "step": ["line", "standing", "thing"], "run": ["line", "standing", "row"],
+        "ending": ["line", "standing"], "whole": ["line", "row"], "through": ["book", "row"],
+    },
 }
 
 

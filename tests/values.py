@@ -30,6 +30,15 @@ def no_tuples():
     ]
 
 
+def no_pairs(n):
+    """Return values of every sort none of which is a pair of kinds of n."""
+    return no_kinds(n) + [
+        (0, 0, 0), (0, n), (n, 0), (-1, 0), (0, -1), (None, 0), (0, None), (True, 0), (0, False),
+        ("a", "b"), ("0", 0), ((0,), 0), (0, (0,)), ((0, 0), (0, 0)), ((0, 0),), [0, 0], [(0, 0)],
+        {0: 0, 1: 0}, "ab", "a>b", (0, []), ({}, 0), (0, 10 ** 399), (nested(4), 0), (0,) * 60,
+    ]
+
+
 def no_strings():
     """Return values of every sort none of which is a string."""
     return [

@@ -1,0 +1,72 @@
+"""Books, lines and rows drawn by chance, and books judged by the document's words.
+
+Nothing here asks the package, so that it may be held against it.
+"""
+
+import itertools
+import random
+
+
+def chance(seed):
+    """Return a source of chance that gives the same again for the same seed."""
+    return random.Random(seed)
+
+
+def pairs_of(n):
+    """Return all pairs of kinds of n, also those of one kind."""
+    return list(itertools.product(range(n), repeat=2))
+
+
+def is_order(pairs):
+    """Return whether no kind passes itself, and each passes whom those pass that it passes."""
+    have = set(pairs)
+    no_self = all(x != h for x, h in have)
+    return no_self and all((x, z) in have for x, y in have for again, z in have if y == again)
+
+
+def closure(pairs):
+    """Return the ascending tuple of pairs with all that must stand beside them."""
+    have = set(pairs)
+    while True:
+        more = {(x, z) for x, y in have for again, z in have if y == again} - have
+        if not more:
+            return tuple(sorted(have))
+        have |= more
+
+
+def books_of(n):
+    """Return the ascending list of all books of n (of 1 to 4), of all sets of pairs."""
+    pairs = [pair for pair in pairs_of(n) if pair[0] != pair[1]]
+    lots = itertools.chain(*[itertools.combinations(pairs, many) for many in range(n * (n - 1) // 2 + 1)])
+    return sorted([lot for lot in lots if is_order(lot)])
+
+
+def full_book(n):
+    """Return the book in which each lesser kind passes each greater one."""
+    return tuple(itertools.combinations(range(n), 2))
+
+
+def draw_book(draw, n):
+    """Return a book of n: some of the pairs that lead down a drawn ranking, closed."""
+    ranking = list(range(n))
+    draw.shuffle(ranking)
+    share = draw.choice((0.1, 0.3, 0.6, 1.0))
+    down = [pair for pair in itertools.combinations(ranking, 2) if draw.random() < share]
+    return closure(down)
+
+
+def draw_line(draw, n, most=6):
+    """Return a line of n with at most so many bays, some of them with one book."""
+    books = [draw_book(draw, n) for _ in range(draw.randint(1, 3))] + [()]
+    return tuple([draw.choice(books) for _ in range(draw.randint(0, most))])
+
+
+def draw_row(draw, n, most=60):
+    """Return a row of n with at most so many things."""
+    return tuple([draw.randrange(n) for _ in range(draw.randint(0, most))])
+
+
+def draw_standing(draw, n, line):
+    """Return any standing of line, also one that never comes: what is held stands in front."""
+    held = draw.randint(0, len(line))
+    return tuple([draw.randrange(n) for _ in range(held)]) + (None,) * (len(line) - held)
