@@ -33,3 +33,8 @@ def standing_error(n, line, value):
 def empty(line):
     """Return the standing of line in which no bay holds anything."""
     return (None,) * len(line)
+
+
+def none_first(held):
+    """Return what a tuple of kinds and Nones is sorted by: None stands ahead of all kinds."""
+    return tuple([-1 if kind is None else kind for kind in held])

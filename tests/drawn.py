@@ -70,3 +70,22 @@ def draw_standing(draw, n, line):
     """Return any standing of line, also one that never comes: what is held stands in front."""
     held = draw.randint(0, len(line))
     return tuple([draw.randrange(n) for _ in range(held)]) + (None,) * (len(line) - held)
+
+
+def draw_part(draw, n, book):
+    """Return the pairs of a book whose passers are among drawn kinds."""
+    chosen = [x for x in range(n) if draw.random() < 0.6]
+    return tuple([pair for pair in book if pair[0] in chosen])
+
+
+def drawn_books(seed, many):
+    """Yield (draw, n, one, other) again and again, each n from 1 to 8 among them.
+
+    Many of the books are parts of one book, as others are mostly blocked.
+    """
+    draw = chance(seed)
+    for count in range(many):
+        n = count % 8 + 1
+        book, more = draw_book(draw, n), draw_book(draw, n)
+        one, other = draw_part(draw, n, book), draw_part(draw, n, book)
+        yield (draw, n) + draw.choice(((one, other), (book, other), (one, book), (one, more), (book, more)))

@@ -21,6 +21,15 @@ FUNCTIONS = {
         "step": ["line", "standing", "thing"], "run": ["line", "standing", "row"],
         "ending": ["line", "standing"], "whole": ["line", "row"], "through": ["book", "row"],
     },
+    "tables": {
+        "table": ["n", "line"], "table_whole": ["told", "row"], "merged_number": ["told"], "merged": ["told"],
+    },
+    "rounds": {"many_rounds": ["n", "line", "row", "times"]},
+    "changing": {"blocked": ["n", "one", "other"], "parting": ["n", "one", "other"]},
+    "doubles": {
+        "doubles": ["n", "one", "other"], "doubles_error": ["n", "one", "other", "value"],
+        "changed": ["n", "one", "other", "held"],
+    },
 }
 
 

@@ -7,6 +7,7 @@ from baylines.books import all_books, passes
 from baylines.lines import empty, standing_error
 from baylines.rows import row_error, same_things
 from baylines.running import ending, run, step, through, whole
+from tests.bays import marked_whole, standings, told_ending, told_run
 from tests.drawn import books_of, chance, draw_book, draw_line, draw_row, draw_standing, full_book
 from tests.examples import check
 from tests.values import check_returns
@@ -29,70 +30,6 @@ EXAMPLES = """
 """
 
 RANKS, SLOW = ((0, 1), (0, 2), (1, 2)), ((0, 1), (0, 2))
-
-
-class Bays:
-    """Bays one behind another, each told what is behind it, as [C2] says it.
-
-    Things are any values of which kind_of tells the kind.
-    """
-
-    def __init__(self, line, held, kind_of=int):
-        self.books = [set(book) for book in line]
-        self.held = list(held)
-        self.kind_of = kind_of
-        self.out = []
-
-    def come(self, thing, place=0):
-        if place == len(self.books):
-            self.out.append(thing)
-            return
-        there = self.held[place]
-        if there is None:
-            self.held[place] = thing
-        elif (self.kind_of(thing), self.kind_of(there)) in self.books[place]:
-            self.come(thing, place + 1)
-        else:
-            self.held[place] = thing
-            self.come(there, place + 1)
-
-    def end(self):
-        for place in range(len(self.books)):
-            there, self.held[place] = self.held[place], None
-            if there is not None:
-                self.come(there, place + 1)
-
-
-def told_run(line, standing, row):
-    """What run has to return."""
-    bays = Bays(line, standing)
-    for thing in row:
-        bays.come(thing)
-    return (tuple(bays.held), tuple(bays.out))
-
-
-def told_ending(line, standing):
-    """What ending has to return."""
-    bays = Bays(line, standing)
-    bays.end()
-    return tuple(bays.out)
-
-
-def marked_whole(line, row):
-    """Return what comes out of line as pairs (kind, place in row), the end too."""
-    bays = Bays(line, (None,) * len(line), lambda thing: thing[0])
-    for place, kind in enumerate(row):
-        bays.come((kind, place))
-    bays.end()
-    return bays.out
-
-
-def standings(n, many):
-    """Return all tuples of many items, kinds of n ahead of Nones."""
-    found = []
-    for held in range(many + 1):
-        found += [kinds + (None,) * (many - held) for kinds in itertools.product(range(n), repeat=held)]
-    return found
 
 
 def drawn(seed, many):
