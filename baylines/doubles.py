@@ -3,6 +3,7 @@
 from baylines.books import only, passes
 from baylines.changing import alone, blocked
 from baylines.errors import Blocked
+from baylines.judging import first_fault
 from baylines.lines import none_first, standing_error
 from baylines.running import ending, step
 
@@ -44,13 +45,8 @@ def is_paper(n, one, other, value):
     """Return whether value, any value, is a tuple of unlike doubles."""
     if not isinstance(value, tuple):
         return False
-    seen = set()
-    for item in value:
-        # What is no double may be such that no set takes it.
-        if not is_double(n, one, other, item) or item in seen:
-            return False
-        seen.add(item)
-    return True
+    # What is no double may be such that no set takes it, so this is asked first.
+    return all([is_double(n, one, other, item) for item in value]) and len(set(value)) == len(value)
 
 
 def moved(one, other, double, kind):
@@ -63,15 +59,10 @@ def moved(one, other, double, kind):
 def double_error(n, one, other, double, place, among):
     """Return what is wrong with the double at place, None if nothing is; among has all as keys."""
     moves = [moved(one, other, double, kind) for kind in range(n)]
-    for kind, (_, out) in enumerate(moves):
-        if out[0] != out[1]:
-            return ("out", place, kind)
-    for kind, (behind, _) in enumerate(moves):
-        if behind not in among:
-            return ("leads", place, kind)
-    if ending((one, other), double[:2]) != ending((other, one), double[2:]):
-        return ("ending", place)
-    return None
+    unlike = [out[0] != out[1] for _, out in moves]
+    away = [behind not in among for behind, _ in moves]
+    unlike_ends = ending((one, other), double[:2]) != ending((other, one), double[2:])
+    return first_fault(place, unlike, away, unlike_ends)
 
 
 def doubles_error(n, one, other, value):

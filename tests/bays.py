@@ -1,5 +1,6 @@
 """Bays, and what two of them hold, as the document's words tell it, by no way of the package's."""
 
+import functools
 import itertools
 
 
@@ -126,6 +127,7 @@ def is_turned(n, one, other, double):
     return (p, q) == (v, u) and told
 
 
+@functools.lru_cache(maxsize=1000)
 def told_doubles(n, one, other):
     """What doubles has to return of books that are not blocked."""
     found = {(None,) * 4} | {(u, None, u, None) for u in range(n)}
@@ -138,3 +140,44 @@ def told_doubles(n, one, other):
 def told_changed(n, one, other, held):
     """What changed has to return of books that are not blocked."""
     return tuple([double[2:] for double in told_doubles(n, one, other) if double[:2] == held])
+
+
+def told_lead(one, other, joint, kind):
+    """Return the joint standing of one and other to which kind leads."""
+    behind, out = told_run(one, joint[0], (kind,))
+    other_behind, other_out = told_run(other, joint[1], (kind,))
+    ahead, other_ahead = joint[2][0] + out, joint[2][1] + other_out
+    while ahead and other_ahead and ahead[0] == other_ahead[0]:
+        ahead, other_ahead = ahead[1:], other_ahead[1:]
+    return (behind, other_behind, (ahead, other_ahead))
+
+
+def told_parts(one, other, joint):
+    """Return whether a joint standing parts."""
+    standing, other_standing, (ahead, other_ahead) = joint
+    if ahead and other_ahead:
+        return True
+    return ahead + told_ending(one, standing) != other_ahead + told_ending(other, other_standing)
+
+
+def told_begin(one, other):
+    """Return the joint standing of no thing."""
+    return ((None,) * len(one), (None,) * len(other), ((), ()))
+
+
+def told_joints(n, one, other, limit=4000):
+    """Return (joint standings in order, row of the first one that parts or None), None if these are too many."""
+    found = [told_begin(one, other)]
+    rows = {found[0]: ()}
+    # The list grows as it is gone through, so each joint standing has its turn.
+    for joint in found:
+        if told_parts(one, other, joint):
+            return (found, rows[joint])
+        for kind in range(n):
+            behind = told_lead(one, other, joint, kind)
+            if behind not in rows:
+                if len(found) == limit:
+                    return None
+                rows[behind] = rows[joint] + (kind,)
+                found.append(behind)
+    return (found, None)

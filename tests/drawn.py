@@ -6,6 +6,13 @@ Nothing here asks the package, so that it may be held against it.
 import itertools
 import random
 
+# Lines of which just so many standings come, the bound and one more.
+JUST_4000 = (8, (((3, 2),), (), ((1, 4), (1, 7), (2, 0), (2, 5), (3, 4), (3, 5), (3, 7), (7, 4)), ()))
+JUST_4001 = [
+    (4, ((), ((3, 0),), (), ((1, 0), (2, 0), (2, 1)), (), ((2, 0), (2, 1), (3, 0), (3, 1), (3, 2)))),
+    (8, ((), ((5, 3), (5, 6)), ((1, 4), (2, 0), (2, 3), (2, 4), (2, 6), (6, 0), (6, 3), (6, 4), (7, 4)), ())),
+]
+
 
 def chance(seed):
     """Return a source of chance that gives the same again for the same seed."""
@@ -89,3 +96,29 @@ def drawn_books(seed, many):
         book, more = draw_book(draw, n), draw_book(draw, n)
         one, other = draw_part(draw, n, book), draw_part(draw, n, book)
         yield (draw, n) + draw.choice(((one, other), (book, other), (one, book), (one, more), (book, more)))
+
+
+def draw_fitting_line(draw, n, most=6):
+    """Return a line of n with at most so many bays, of books many of which are not blocked."""
+    book, more = draw_book(draw, n), draw_book(draw, n)
+    books = [book, more, ()] + [draw_part(draw, n, draw.choice((book, book, more))) for _ in range(3)]
+    books += [(pair,) for pair in draw.sample(book, min(2, len(book)))]
+    return tuple([draw.choice(books) for _ in range(draw.randint(0, most))])
+
+
+def draw_lines(draw, n, most=5):
+    """Return two lines of n that may do the same, or nearly so."""
+    line = draw_fitting_line(draw, n, most)
+    other = draw.choice((line, tuple(draw.sample(line, len(line))), line[1:], tuple([book for book in line if book])))
+    if len(other) < most and draw.random() < 0.5:
+        at = draw.randint(0, len(other))
+        other = other[:at] + (draw.choice(((), (), draw_book(draw, n))),) + other[at:]
+    return line, other
+
+
+def drawn_lines(seed, many, kinds=8, most=5):
+    """Yield (draw, n, one, other) again and again, each n from 1 to kinds among them."""
+    draw = chance(seed)
+    for count in range(many):
+        n = count % kinds + 1
+        yield (draw, n) + draw_lines(draw, n, most)

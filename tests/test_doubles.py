@@ -6,6 +6,7 @@ import unittest
 from baylines.changing import blocked
 from baylines.doubles import changed, doubles, doubles_error
 from baylines.errors import Blocked
+from baylines.papers import kept
 from baylines.tables import table
 from tests.bays import coming, standings, told_blocked, told_changed, told_doubles, told_ending, told_run
 from tests.drawn import books_of, draw_row, drawn_books, full_book
@@ -244,7 +245,8 @@ class DoublesError(unittest.TestCase):
 
     def test_what_the_package_returned_elsewhere(self):
         others = [
-            table(2, (LOW,)), table(3, ((),) * 6), doubles(3, RANKS, SLOW), (doubles(2, LOW, ()),), list(doubles(2, LOW, ())),
+            table(2, (LOW,)), table(3, ((),) * 6), kept(2, (LOW,), (LOW,)), kept(3, ((),), ()),
+            doubles(3, RANKS, SLOW), (doubles(2, LOW, ()),), list(doubles(2, LOW, ())),
         ]
         for value in others:
             check_returns(self, "form", doubles_error, n=2, one=LOW, other=(), value=value)
@@ -262,9 +264,11 @@ class DoublesError(unittest.TestCase):
         self.assertEqual([led((), (), double, x)[1:] for x in (0, 1)], [((1,), (0,)), ((1,), (0,))])
         check_returns(self, ("out", 0, 0), doubles_error, n=2, one=(), other=(), value=(double, NOTHING))
         # By 0 this one leads away, by 1 unlike things come out.
-        double = (1, 0, 1, 1)
-        self.assertEqual([led(LOW, LOW, double, x)[1:] for x in (0, 1)], [((0,), (0,)), ((0,), (1,))])
-        check_returns(self, ("out", 0, 1), doubles_error, n=2, one=LOW, other=LOW, value=(double, NOTHING))
+        double = (1, 0, 1, 0)
+        found = [led(LOW, ((1, 0),), double, x) for x in (0, 1)]
+        self.assertEqual(found, [((1, 0, 0, 1), (0,), (0,)), ((1, 0, 1, 1), (1,), (0,))])
+        value = (double, NOTHING)
+        check_returns(self, ("out", 0, 1), doubles_error, n=2, one=LOW, other=((1, 0),), value=value)
         # One gives out a thing, the other none.
         check_returns(self, ("out", 0, 0), doubles_error, n=2, one=(), other=(), value=((0, 0, 0, None), NOTHING))
         # 0 passes 1 in one order, 1 passes 0 in the other one: this double leads to itself.

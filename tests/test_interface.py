@@ -30,6 +30,16 @@ FUNCTIONS = {
         "doubles": ["n", "one", "other"], "doubles_error": ["n", "one", "other", "value"],
         "changed": ["n", "one", "other", "held"],
     },
+    "changes": {
+        "may_change": ["n", "line"], "change": ["n", "line", "places"],
+        "live": ["n", "line", "standings", "places"],
+    },
+    "forms": {
+        "first_bays": ["n", "line"], "least_line": ["n", "line"], "lines_of": ["n", "line"],
+        "calmest": ["n", "line"], "road": ["n", "one", "other"],
+    },
+    "sameness": {"bare": ["line"], "leaned": ["n", "line"], "parted": ["n", "one", "other"]},
+    "papers": {"kept": ["n", "one", "other"], "kept_error": ["n", "one", "other", "value"]},
 }
 
 

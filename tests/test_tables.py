@@ -8,7 +8,7 @@ from baylines.lines import empty, standing_error
 from baylines.running import whole
 from baylines.tables import merged, merged_number, table, table_whole
 from tests.bays import coming, told_ending, told_run, told_whole
-from tests.drawn import books_of, chance, draw_book, draw_line, draw_row, full_book
+from tests.drawn import JUST_4000, JUST_4001, books_of, chance, draw_book, draw_line, draw_row, full_book
 from tests.examples import check
 from tests.values import check_error, check_returns
 
@@ -28,13 +28,6 @@ EXAMPLES = """
 """
 
 QUICK, IDLE = ((0, 1),), ()
-
-# Lines of which just so many standings come, the bound and one more.
-JUST_4000 = (8, (((3, 2),), (), ((1, 4), (1, 7), (2, 0), (2, 5), (3, 4), (3, 5), (3, 7), (7, 4)), ()))
-JUST_4001 = [
-    (4, ((), ((3, 0),), (), ((1, 0), (2, 0), (2, 1)), (), ((2, 0), (2, 1), (3, 0), (3, 1), (3, 2)))),
-    (8, ((), ((5, 3), (5, 6)), ((1, 4), (2, 0), (2, 3), (2, 4), (2, 6), (6, 0), (6, 3), (6, 4), (7, 4)), ())),
-]
 
 
 def told_table(n, line):
