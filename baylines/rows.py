@@ -1,13 +1,13 @@
 """Kinds, and rows of things: what they are, and how their things stand."""
 
 from baylines.bounds import MAX_ROW, MAX_ROWS
+from baylines.counting import is_within
 from baylines.errors import TooMany
 
 
 def is_kind(n, value):
     """Return whether value, any value, is a kind of n."""
-    # A bool is an int in Python, but True is not the kind 1.
-    return isinstance(value, int) and not isinstance(value, bool) and 0 <= value < n
+    return is_within(0, n - 1, value)
 
 
 def row_error(n, value):

@@ -47,7 +47,7 @@ def no_strings():
     ]
 
 
-def outcome(call, *args, **named):
+def outcome(call, /, *args, **named):
     """Return what a call returned, or the class and the fields of its error."""
     try:
         return ("returned", repr(call(*args, **named)))
@@ -55,7 +55,7 @@ def outcome(call, *args, **named):
         return ("raised", type(error), repr(vars(error)))
 
 
-def check_call(case, call, **named):
+def check_call(case, call, /, **named):
     """Check what holds of every call, and return its outcome.
 
     By place and by name it gets the same, again it gets the same, and what is
@@ -71,11 +71,11 @@ def check_call(case, call, **named):
     return first
 
 
-def check_returns(case, wanted, call, **named):
+def check_returns(case, wanted, call, /, **named):
     """Check that a call returns just this, True told from 1, and all that holds."""
     case.assertEqual(("returned", repr(wanted)), check_call(case, call, **named))
 
 
-def check_error(case, wanted, call, **named):
+def check_error(case, wanted, call, /, **named):
     """Check that a call raises an error of this class with these fields."""
     case.assertEqual(("raised", type(wanted), repr(vars(wanted))), check_call(case, call, **named))
