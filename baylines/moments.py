@@ -15,7 +15,7 @@ from baylines.rows import is_kind
 from baylines.running import ending, step
 
 
-def taken(inside, kinds):
+def split_off(inside, kinds):
     """Return (the first pairs (ticket, kind) of inside with these kinds, one behind another; those left)."""
     left = list(inside)
     found = []
@@ -27,7 +27,7 @@ def taken(inside, kinds):
 def shown_pairs(standing, inside):
     """Return for each bay the pair (ticket, kind) of what it holds, or None."""
     # Of things of one kind the one nearest to the end came first.
-    found, _ = taken(inside, [kind for kind in reversed(standing) if kind is not None])
+    found, _ = split_off(inside, [kind for kind in reversed(standing) if kind is not None])
     return found[::-1] + (None,) * (len(standing) - len(found))
 
 
@@ -49,7 +49,7 @@ def first_moment():
 
 def given_out(moment, bays, stands, inside, kinds):
     """Return the moment behind this one at which things of these kinds came out of inside."""
-    found, left = taken(inside, kinds)
+    found, left = split_off(inside, kinds)
     return Moment(bays, stands, left, moment.gone + found)
 
 
@@ -99,12 +99,10 @@ def exchanged(n, moment, place):
     """Return the moment behind the bays at place and behind it have exchanged their places."""
     if not is_within(0, len(moment.bays) - 2, place):
         raise Unfit()
-    one, other = moment.bays[place:place + 2]
-    if one == other:
-        raise Unfit()
-    why = blocked(n, one, other)
+    why = blocked(n, moment.bays[place], moment.bays[place + 1])
     if why is not None:
         raise Blocked(why)
+    # A book is never blocked with itself, so equal books come as far as this, and are refused.
     bays, stands = live(n, moment.bays, moment.stands, (place,))
     return Moment(bays, stands, moment.inside, moment.gone)
 

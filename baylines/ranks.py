@@ -36,7 +36,8 @@ def sorts_longer(n, line, rows):
         for kind in range(n):
             row = rows[(standing, last)] + (kind,)
             then, out = step(line, standing, kind)
-            if out is not None and last is not None and out < last:
+            # Where something came out before, something does by each thing.
+            if last is not None and out < last:
                 return (row, None)
             pair = (then, last if out is None else out)
             if pair not in behind:

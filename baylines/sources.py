@@ -69,13 +69,13 @@ def chosen(nexts, wanted, counts, number):
 
     By lesser kinds as many sources go on as counts tells of where they lead.
     """
+    ways = [(kind, then) for kind, (then, out) in enumerate(nexts) if out == wanted]
     left = number
-    for kind, (then, out) in enumerate(nexts):
-        if out == wanted:
-            if left < counts[then]:
-                return (kind, then, left)
-            left -= counts[then]
-    raise Unfit()
+    at = 0
+    while left >= counts[ways[at][1]]:
+        left -= counts[ways[at][1]]
+        at += 1
+    return (ways[at][0], ways[at][1], left)
 
 
 def source(n, line, row, number):

@@ -266,6 +266,7 @@ def spoilt(draw, text):
     """Return text with one token or two left out, told twice, put in another's place or spoilt."""
     parts = re.findall(r"[a-z]+|[0-9]+|[;=>()*]|[ \n]+", text)
     for _ in range(draw.choice((1, 1, 2, 3))):
+        parts = parts or [" "]
         place, way = draw.randrange(len(parts)), draw.randrange(6)
         if way == 0:
             del parts[place]

@@ -479,14 +479,20 @@ class Equality(unittest.TestCase):
             self.check(one, other, False)
 
     def test_unlike_tickets_alone(self):
-        # The same line, ways and kinds, but other things are held.
-        one = led(2, [("put", 0, ()), ("come", 0), ("come", 1), ("come", 1)])
-        other = led(2, [("come", 0), ("come", 1), ("put", 0, ()), ("come", 1)])
-        self.assertEqual((one.ways, one.held, one.outs), (other.ways, other.held, other.outs))
-        self.check(one, other, True)
-        one = led(2, [("put", 0, ((0, 1),)), ("come", 1), ("come", 0)])
-        other = led(2, [("come", 0), ("put", 0, ((0, 1),)), ("come", 1)])
-        self.assertEqual((one.line, one.ways, one.standing), (other.line, other.ways, other.standing))
+        # The same kinds are held, but of other things: once 0 has passed 1, once it came first.
+        line = [("put", 0, ((0, 1),)), ("put", 1, ())]
+        one, other = led(2, line + [("come", 1), ("come", 0)]), led(2, line + [("come", 0), ("come", 1)])
+        self.assertEqual((one.line, one.ways, one.outs), (other.line, other.ways, other.outs))
+        self.assertEqual((one.held, other.held), (((0, 1), (1, 0)), ((1, 1), (0, 0))))
+        self.check(one, other, False)
+
+    def test_unlike_outs_alone(self):
+        # The thing that came out was of another kind, or another one of its kind.
+        line = [("put", 0, ())]
+        one, other = led(3, [("come", 1)] + line), led(3, [("come", 0)] + line)
+        self.check(one, other, False)
+        one, other = led(2, [("come", 0), ("come", 1)]), led(2, [("come", 1), ("come", 0)])
+        self.assertEqual((one.line, one.ways, one.held), (other.line, other.ways, other.held))
         self.check(one, other, False)
 
     def test_unlike_ways_alone(self):

@@ -319,7 +319,12 @@ class ReadPlant(unittest.TestCase):
         self.bad(head + "1 * (" * 6 + "1 @* x" + ")" * 6 + ";")
         self.bad(head + "1 * (" * 6 + "@(x)" + ")" * 6 + ";")
         self.bad(head + "(" * 11 + "1 * @(x)" + ")" * 11 + ";")
-        # What has been closed, or read, is no level any more.
+        # What has been closed, or read, is one level less.
+        self.bad(head + "(" * 11 + "(x) (@(x" + ")" * 13 + ";")
+        self.bad(head + "(" * 11 + "1 * x (1 @* x" + ")" * 12 + ";")
+        self.bad(head + "(" * 11 + "1 * x 1 * @(x)" + ")" * 11 + ";")
+        self.bad(head + "(" * 10 + "(1 * x) (x) ((@(x" + ")" * 13 + ";")
+        self.bad(head + "1 * (" * 5 + "1 * (x) 1 * (@(x" + ")" * 12 + ";")
         self.reads((FULL,) * 2, "(" * 12 + "x" + ")" * 12 + "(" * 12 + "x" + ")" * 12)
         self.reads((FULL,) * 3, "(" * 11 + "1 * x 1 * x (x)" + ")" * 11)
         self.reads((FULL,) * 3, "1 * " * 12 + "x " + "(" * 12 + "x" + ")" * 12 + " 1 * (x)")
