@@ -48,13 +48,13 @@ def first_moment():
 
 
 def given_out(moment, bays, stands, inside, kinds):
-    """Return the moment behind this one at which things of these kinds came out of inside."""
+    """Return the moment at which things of these kinds have come out of inside, ahead of all others."""
     found, left = split_off(inside, kinds)
     return Moment(bays, stands, left, moment.gone + found)
 
 
 def put_in(n, moment, place, book):
-    """Return the moment behind a bay has been put in."""
+    """Return the moment at which a bay with book has been put in at place; both may be any values."""
     bays, standing = moment.bays, moment.stands[0]
     if not is_within(0, len(bays), place):
         raise Unfit()
@@ -70,7 +70,7 @@ def put_in(n, moment, place, book):
 
 
 def taken_out(moment, place):
-    """Return the moment behind a bay has gone, what it held having come to the bays behind it."""
+    """Return the moment at which the bay at place, any value, has gone, and what it held has come to those behind."""
     bays, standing = moment.bays, moment.stands[0]
     if not is_within(0, len(bays) - 1, place):
         raise Unfit()
@@ -83,7 +83,7 @@ def taken_out(moment, place):
 
 
 def come_in(n, moment, kind):
-    """Return the moment behind a thing of this kind, any value, has come."""
+    """Return the moment at which a thing of this kind, any value, has come."""
     if not is_kind(n, kind):
         raise Unfit()
     steps = [step(moment.bays, way, kind) for way in moment.stands]
@@ -96,7 +96,7 @@ def come_in(n, moment, kind):
 
 
 def exchanged(n, moment, place):
-    """Return the moment behind the bays at place and behind it have exchanged their places."""
+    """Return the moment at which the bays at place, any value, and behind it have exchanged their places."""
     if not is_within(0, len(moment.bays) - 2, place):
         raise Unfit()
     why = blocked(n, moment.bays[place], moment.bays[place + 1])
@@ -122,6 +122,6 @@ def exchangeable(n, moment):
 
 
 def ended(moment):
-    """Return the moment behind all that is held has come out."""
+    """Return the moment at which all that is held has come out."""
     kinds = ending(moment.bays, moment.stands[0])
     return given_out(moment, moment.bays, (empty(moment.bays),), moment.inside, kinds)
